@@ -1,0 +1,1 @@
+"""Seekhall: fillings that are sought, told, counted, and shown not to be."""
