@@ -145,11 +145,18 @@ def is_wish(thing):
     return is_plain_wish(thing)
 
 
-def cells_of(wish):
-    if wish[0] == "same":
-        return (wish[1],) + cells_of(wish[3])
+def plain_cells_of(wish):
     if wish[0] == "sum":
         return tuple([term[1] for term in wish[1]])
     if wish[0] == "many":
         return wish[2]
     return wish[1]
+
+
+def cells_of(wish):
+    own = []
+    inner = wish
+    while inner[0] == "same":
+        own.append(inner[1])
+        inner = inner[3]
+    return tuple(own) + plain_cells_of(inner)

@@ -3,7 +3,7 @@ import itertools
 import random
 import unittest
 
-from helper import FAR, GREATEST, NAMES, ORDINARY, every_filling, raised
+from helper import FAR, GREATEST, NAMES, ORDINARY, every_filling, kept_by_the_words, raised, random_wish
 from seekhall.errors import NoHall
 from seekhall.halls import all_kept, check_hall, first_rooms
 
@@ -103,55 +103,6 @@ class RoomsTest(unittest.TestCase):
         told["z"] = (6,)
         self.assertEqual(first_rooms(hall), {"a": ROOM, "b": (1, 2, 3), "c": (0, 1, 2)})
         self.assertEqual(hall, (CELLS, WISHES))
-
-
-def kept_by_the_words(wish, filling):
-    """Point 4 once more, told otherwise than the program tells it."""
-    sort = wish[0]
-    if sort == "unlike":
-        return all(filling[x] != filling[y] for x, y in itertools.combinations(wish[1], 2))
-    if sort == "many":
-        return sum(filling[cell] in wish[1] for cell in wish[2]) in range(wish[3], wish[4] + 1)
-    if sort == "sum":
-        total = 0
-        for factor, cell in wish[1]:
-            total += factor * filling[cell]
-        return not (wish[2] is not None and total < wish[2]) and not (wish[3] is not None and total > wish[3])
-    if sort == "table":
-        return any(all(filling[cell] == value for cell, value in zip(wish[1], row)) for row in wish[2])
-    if sort == "way":
-        states = {0}
-        for cell in wish[1]:
-            states = {step[2] for step in wish[2] if step[0] in states and step[1] == filling[cell]}
-        return any(state in states for state in wish[3])
-    if sort == "behind":
-        found = [filling[cell] for cell in wish[1]]
-        return all(found[place] - found[place - 1] >= wish[2] for place in range(1, len(found)))
-    return (filling[wish[1]] in wish[2]) is kept_by_the_words(wish[3], filling)
-
-
-def random_wish(chance, names, same=True):
-    cells = tuple(chance.sample(names, chance.randint(1, len(names) - 1)))
-    values = tuple(chance.sample(range(-2, 4), chance.randint(0, 4)))
-    sort = chance.choice(["unlike", "many", "sum", "table", "way", "behind"] + ["same"] * same)
-    if sort == "unlike":
-        return (sort, cells)
-    if sort == "many":
-        return (sort, values, cells, chance.randint(0, 3), chance.randint(0, 3))
-    if sort == "sum":
-        terms = tuple((chance.choice((-3, -1, 1, 2)), cell) for cell in cells)
-        return (sort, terms, chance.choice((None, -3, 0, 2)), chance.choice((None, -1, 0, 3)))
-    if sort == "table":
-        every = list(itertools.product(range(-2, 4), repeat=len(cells)))
-        return (sort, cells, tuple(chance.sample(every, chance.randint(0, 6))))
-    if sort == "way":
-        every = list(itertools.product(range(3), range(-2, 4)))
-        steps = tuple(pair + (chance.randint(0, 2),) for pair in chance.sample(every, chance.randint(0, 18)))
-        return (sort, cells, steps, tuple(chance.sample(range(3), chance.randint(0, 3))))
-    if sort == "behind":
-        return (sort, cells, chance.randint(-2, 2))
-    inner = tuple(name for name in names if name != cells[0])
-    return (sort, cells[0], values, random_wish(chance, inner, False))
 
 
 class KeptTest(unittest.TestCase):
