@@ -2,9 +2,12 @@
 
 import itertools
 
+from seekhall.forms import cells_of
+
 LETTERS = "abcdefghijklmnopqrstuvwxyz"
 NAMES = tuple(LETTERS)
 FAR = 10 ** 6
+TEN = tuple(range(10))
 GREATEST_STEPS = tuple((state, value, 20 - state) for state in range(20, 17, -1) for value in range(20))
 
 ORDINARY = {
@@ -119,3 +122,13 @@ def random_wish(chance, names, sorts=SORTS):
         return (sort, cells, chance.randint(-2, 2))
     inner = tuple(name for name in names if name != cells[0])
     return (sort, cells[0], values, random_wish(chance, inner, SORTS[:6]))
+
+
+def random_rooms(chance, names, most):
+    return {name: tuple(sorted(chance.sample(range(-2, 4), chance.randint(1, most)))) for name in names}
+
+
+def told_by_all(wish, rooms):
+    """Whether the wish may be kept and may be broken, by going through all fillings of its cells."""
+    answers = {kept_by_the_words(wish, filling) for filling in every_filling({cell: rooms[cell] for cell in cells_of(wish)})}
+    return True in answers, False in answers

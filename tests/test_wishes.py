@@ -3,29 +3,22 @@ import itertools
 import random
 import unittest
 
-from helper import FAR, NAMES, every_filling, kept_by_the_words, random_wish
+from helper import FAR, NAMES, TEN, every_filling, kept_by_the_words, random_rooms, random_wish, told_by_all
+from seekhall.behinds import Behind
 from seekhall.forms import cells_of
 from seekhall.manies import Many
+from seekhall.sames import Same
+from seekhall.steps import Way
 from seekhall.sums import Sum
+from seekhall.tables import Table
 from seekhall.unlikes import Unlike
 from seekhall.wishes import Wish
 
-CLASSES = {"unlike": Unlike, "many": Many, "sum": Sum}
-TEN = tuple(range(10))
+CLASSES = {"unlike": Unlike, "many": Many, "sum": Sum, "table": Table, "way": Way, "behind": Behind, "same": Same}
 
 
 def made(wish):
     return CLASSES[wish[0]](wish)
-
-
-def told_by_all(wish, rooms):
-    """Whether the wish may be kept and may be broken, by going through all fillings of its cells."""
-    answers = {kept_by_the_words(wish, filling) for filling in every_filling({cell: rooms[cell] for cell in cells_of(wish)})}
-    return True in answers, False in answers
-
-
-def random_rooms(chance, names, most):
-    return {name: tuple(sorted(chance.sample(range(-2, 4), chance.randint(1, most)))) for name in names}
 
 
 class WishTestCase(unittest.TestCase):
@@ -49,6 +42,10 @@ class ClassesTest(unittest.TestCase):
     def test_each_stands_right_beneath_wish(self):
         for made_class in CLASSES.values():
             self.assertEqual(made_class.__bases__, (Wish,))
+
+    def test_none_stands_beneath_another_one(self):
+        for one, other in itertools.permutations(CLASSES.values(), 2):
+            self.assertFalse(issubclass(one, other))
 
     def test_a_wish_has_the_three_methods(self):
         asked = Wish(("unlike", ("a", "b")))
@@ -82,7 +79,7 @@ class KeptTest(WishTestCase):
     def test_against_the_words_of_the_document(self):
         chance = random.Random(7)
         told = {}
-        for turn in range(3000):
+        for turn in range(7000):
             wish = random_wish(chance, "abcd", tuple(CLASSES))
             filling = {name: chance.randint(-2, 3) for name in "abcdef"}
             expected = kept_by_the_words(wish, filling)
@@ -150,7 +147,7 @@ class MayTest(WishTestCase):
     def test_just_as_all_fillings_tell(self):
         chance = random.Random(77)
         told = {}
-        for turn in range(4000):
+        for turn in range(9000):
             wish = random_wish(chance, "abcd", tuple(CLASSES))
             rooms = random_rooms(chance, "abcd", chance.choice((1, 2, 4)))
             answers = told_by_all(wish, rooms)
@@ -179,7 +176,7 @@ class MayTest(WishTestCase):
 class AskedAgainTest(WishTestCase):
     def test_rooms_with_more_cells_and_with_one_value_less(self):
         chance = random.Random(80)
-        for turn in range(300):
+        for turn in range(700):
             wish = random_wish(chance, "abcd", tuple(CLASSES))
             rooms = random_rooms(chance, "abcd", 4)
             more = dict(rooms, e=(1,), f=TEN)
@@ -192,7 +189,7 @@ class AskedAgainTest(WishTestCase):
 
     def test_one_object_asked_behind_other_questions(self):
         chance = random.Random(81)
-        for turn in range(200):
+        for turn in range(500):
             wish = random_wish(chance, "abcd", tuple(CLASSES))
             asked = made(wish)
             many_rooms = [random_rooms(chance, "abcd", 3) for time in range(6)]
