@@ -6,6 +6,7 @@ from seekhall.forms import cells_of
 
 LETTERS = "abcdefghijklmnopqrstuvwxyz"
 NAMES = tuple(LETTERS)
+FORTY = ["c" + first + second for first, second in itertools.product("abcde", "abcdefgh")]
 FAR = 10 ** 6
 TEN = tuple(range(10))
 GREATEST_STEPS = tuple((state, value, 20 - state) for state in range(20, 17, -1) for value in range(20))
@@ -132,3 +133,43 @@ def told_by_all(wish, rooms):
     """Whether the wish may be kept and may be broken, by going through all fillings of its cells."""
     answers = {kept_by_the_words(wish, filling) for filling in every_filling({cell: rooms[cell] for cell in cells_of(wish)})}
     return True in answers, False in answers
+
+
+def random_clause(chance, rooms, most, outside=()):
+    """A clause of cells and values of these rooms, or of values that are perhaps in none."""
+    names = sorted(rooms)
+    literals = set()
+    for turn in range(chance.randint(0, most)):
+        name = chance.choice(names)
+        literals.add((name, chance.choice(("is", "not")), chance.choice(rooms[name] + tuple(outside))))
+    return tuple(sorted(literals))
+
+
+def holds_by_the_words(clause, filling):
+    """Point 8 once more."""
+    return any((filling[cell] == value) is (word == "is") for cell, word, value in clause)
+
+
+def follows_by_all(wish, clause, rooms):
+    """Point 9 by going through all fillings of the rooms' cells."""
+    return all(holds_by_the_words(clause, filling) for filling in every_filling(rooms) if kept_by_the_words(wish, filling))
+
+
+def by_units_by_the_words(rooms, clauses):
+    """Point 10 by going round clause by clause, over sets."""
+    left = {name: set(room) for name, room in rooms.items()}
+    changed = True
+    while changed:
+        changed = False
+        for clause in clauses:
+            able = []
+            for cell, word, value in clause:
+                by_it = left[cell] & {value} if word == "is" else left[cell] - {value}
+                if by_it:
+                    able.append((cell, by_it))
+            if not able:
+                return None
+            if len(able) == 1 and left[able[0][0]] != able[0][1]:
+                left[able[0][0]] = able[0][1]
+                changed = True
+    return {name: tuple(sorted(room)) for name, room in left.items()}

@@ -5,8 +5,8 @@ import itertools
 import random
 import unittest
 
-from helper import FAR, GREATEST, LEAST, NAMES, ORDINARY, SORTS, TEN, every_filling, kept_by_the_words, random_rooms, random_wish
-from helper import sample_wishes, told_by_all
+from helper import FAR, FORTY, GREATEST, LEAST, NAMES, ORDINARY, SORTS, TEN, every_filling, kept_by_the_words, random_rooms
+from helper import random_wish, sample_wishes, told_by_all
 from seekhall.behinds import Behind
 from seekhall.forms import cells_of
 from seekhall.manies import Many
@@ -400,12 +400,11 @@ class LongTest(SortsTestCase):
 
 class WholeHallTest(SortsTestCase):
     def test_a_hall_of_forty_cells_asked_of_each_sort(self):
-        names = ["c" + first + second for first in "abcdefgh" for second in "abcde"]
-        rooms = dict.fromkeys(names, TEN)
+        rooms = dict.fromkeys(FORTY, TEN)
         for wish in ORDINARY.values():
             self.assert_told(wish, dict(rooms, a=(1,), b=(2,), c=(3,)),
                              *told_by_all(wish, {"a": (1,), "b": (2,), "c": (3,)}))
         for filling in every_filling({"a": (1, 2), "b": (1, 3), "c": (1, 2)}):
-            whole = dict(dict.fromkeys(names, 0), **filling)
+            whole = dict(dict.fromkeys(FORTY, 0), **filling)
             for wish in ORDINARY.values():
                 self.assertIs(is_kept(wish, whole), kept_by_the_words(wish, filling))
