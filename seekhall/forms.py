@@ -16,9 +16,13 @@ GREATEST_GAP = 1000000000
 GREATEST_BOUND = 10000000000000
 
 
-def is_whole(thing, least, greatest):
+def is_number(thing):
     # Python takes a truth for a number; here it is none.
-    return isinstance(thing, int) and not isinstance(thing, bool) and least <= thing <= greatest
+    return isinstance(thing, int) and not isinstance(thing, bool)
+
+
+def is_whole(thing, least, greatest):
+    return is_number(thing) and least <= thing <= greatest
 
 
 def is_value(thing):

@@ -59,11 +59,12 @@ def clause_against(asked, cell, value, first, rooms):
     return tuple(sorted([(cell, "not", value)] + missing_of(others, first, widest)))
 
 
-def looked_at(wish, first, now):
-    asked = wish_of(wish)
-    rooms = rooms_of(cells_of(wish), now)
+# Of a wish's object, so that one that is asked again and again isn't made anew.
+def taken_by(asked, first, now):
+    cells = cells_of(asked.wish)
+    rooms = rooms_of(cells, now)
     told = []
-    for cell in cells_of(wish):
+    for cell in cells:
         for value in rooms[cell]:
             alone = with_room(rooms, cell, (value,))
             if not asked.may_keep(alone):
@@ -71,10 +72,17 @@ def looked_at(wish, first, now):
     return told
 
 
-def dead_clause(wish, first, now):
-    asked = wish_of(wish)
-    cells = cells_of(wish)
+def dead_by(asked, first, now):
+    cells = cells_of(asked.wish)
     rooms = rooms_of(cells, now)
     if asked.may_keep(rooms):
         return None
     return tuple(sorted(missing_of(cells, first, widened(asked, cells, first, rooms))))
+
+
+def looked_at(wish, first, now):
+    return taken_by(wish_of(wish), first, now)
+
+
+def dead_clause(wish, first, now):
+    return dead_by(wish_of(wish), first, now)

@@ -41,12 +41,16 @@ class Sum(Wish):
                     further[earlier + part] = True
         return further
 
-    def may_keep(self, rooms):
+    # All sums within the bounds to which fillings of the rooms come, as keys.
+    def sums_kept(self, rooms):
         spans = spans_of(self.terms, rooms)
         reached = {0: True}
         for number, term in enumerate(self.terms):
             reached = self.sums_with(reached, parts_of(term, rooms), spans[number + 1])
-        return len(reached) > 0
+        return reached
+
+    def may_keep(self, rooms):
+        return len(self.sums_kept(rooms)) > 0
 
     # Where the least and the greatest sum lie within the bounds, all sums between them do too.
     def may_break(self, rooms):

@@ -1,8 +1,11 @@
 """What several tests use: wishes of all sorts, fillings gone through one by one, and point 4 in other words."""
 
 import itertools
+import random
+import unittest
 
 from seekhall.forms import cells_of
+from seekhall.nones import check_none
 
 LETTERS = "abcdefghijklmnopqrstuvwxyz"
 NAMES = tuple(LETTERS)
@@ -173,3 +176,177 @@ def by_units_by_the_words(rooms, clauses):
                 left[able[0][0]] = able[0][1]
                 changed = True
     return {name: tuple(sorted(room)) for name, room in left.items()}
+
+
+class Filled(Exception):
+    """The hall has a filling that keeps all wishes, so there is no paper."""
+
+
+def negated(chosen, rooms, told_by_is):
+    """The clause that not all of these values are chosen, where it can be by `is` of the other one of two values."""
+    literals = []
+    for name, value in chosen.items():
+        others = [other for other in rooms[name] if other != value]
+        if told_by_is and len(others) == 1:
+            literals.append((name, "is", others[0]))
+        else:
+            literals.append((name, "not", value))
+    return tuple(sorted(literals))
+
+
+def paper_by_cases(hall, told_by_is=False):
+    """A line by a wish where it is broken; else, behind those of all values of a cell, a line by None."""
+    rooms = dict(hall[0])
+    lines = []
+
+    def go(chosen):
+        now = dict(rooms, **{name: (value,) for name, value in chosen.items()})
+        broken = [number for number, wish in enumerate(hall[1]) if not told_by_all(wish, now)[0]]
+        if not broken and len(chosen) == len(rooms):
+            raise Filled
+        if not broken:
+            name = [name for name in rooms if name not in chosen][0]
+            for value in rooms[name]:
+                go(dict(chosen, **{name: value}))
+        lines.append((broken[0] if broken else None, negated(chosen, rooms, told_by_is)))
+
+    go({})
+    return tuple(lines)
+
+
+def is_right_by_the_words(hall, paper, number):
+    """Point 11 of one line once more."""
+    rooms = dict(hall[0])
+    why, clause = paper[number]
+    if not all(cell in rooms and value in rooms[cell] for cell, word, value in clause):
+        return False
+    if why is not None:
+        return why in range(len(hall[1])) and follows_by_all(hall[1][why], clause, rooms)
+    narrowed = {name: list(room) for name, room in rooms.items()}
+    for cell, word, value in clause:
+        narrowed[cell] = [one for one in narrowed[cell] if (one == value) is (word == "not")]
+    return not all(narrowed.values()) or by_units_by_the_words(narrowed, [line[1] for line in paper[:number]]) is None
+
+
+def refused_at(hall, paper):
+    """The number with which the paper is to be refused, or None."""
+    for number in range(len(paper)):
+        if not is_right_by_the_words(hall, paper, number):
+            return number
+    return None if paper and paper[-1][1] == () else len(paper)
+
+
+def pairs_hall(names, room):
+    """Cells no two of which may have one value, a wish for each pair."""
+    return tuple((name, room) for name in names), tuple(("unlike", pair) for pair in itertools.combinations(names, 2))
+
+
+def ring_hall(names, room):
+    """Cells each unlike its neighbour, the last one unlike the first."""
+    return tuple((name, room) for name in names), tuple(("unlike", pair) for pair in zip(names, names[1:] + names[:1]))
+
+
+def fillings_of(hall):
+    """All fillings that keep all wishes, by going through all."""
+    return [filling for filling in every_filling(dict(hall[0])) if all(kept_by_the_words(wish, filling) for wish in hall[1])]
+
+
+def loose_wish(chance, names, room, sorts=SORTS):
+    """A wish of some of the cells that takes little away by itself, so that much is left to choices."""
+    cells = tuple(chance.sample(names, chance.randint(2, min(4, len(names)))))
+    half = tuple(chance.sample(room, len(room) // 2))
+    sort = chance.choice(sorts)
+    if sort == "unlike":
+        return (sort, cells[:3] if len(room) > 2 else cells[:2])
+    if sort == "many":
+        return (sort, half, cells, chance.randint(0, 1), len(cells) - chance.randint(0, 1))
+    if sort == "sum":
+        terms = tuple((chance.choice((-FAR, -2, 1, 3)), cell) for cell in cells)
+        middle = sum(factor * chance.choice(room) for factor, cell in terms)
+        return chance.choice(((sort, terms, middle, None), (sort, terms, None, middle)))
+    if sort == "table":
+        every = list(itertools.product(room, repeat=2))
+        return (sort, cells[:2], tuple(chance.sample(every, min(60, len(every) * 3 // 4))))
+    if sort == "way":
+        steps = tuple((state, value, chance.randint(0, 2)) for state in range(3) for value in room)
+        return (sort, cells, tuple(chance.sample(steps, len(steps) - 1)), (1, 0))
+    if sort == "behind":
+        return (sort, cells[:2], -chance.randint(0, room[-1] - room[0]))
+    others = tuple(name for name in names if name != cells[0])
+    return (sort, cells[0], half, loose_wish(chance, others, room, SORTS[:6]) if len(others) > 1 else ("table", others, ((room[0],),)))
+
+
+def small_halls(seed, count):
+    """Halls by chance of all seven sorts with all fillings that keep all wishes: now wild ones, now ones that leave much to choices."""
+    chance = random.Random(seed)
+    for turn in range(count):
+        if turn % 2:
+            names, room = NAMES[:chance.randint(3, 6)], (-1, 0, 2)
+            wishes = tuple(loose_wish(chance, names, room) for time in range(chance.randint(1, 14)))
+            hall = tuple((name, room) for name in names), wishes
+        else:
+            cells = tuple(random_rooms(chance, "abcde", 4).items())
+            hall = cells, tuple(random_wish(chance, "abcde") for time in range(chance.randint(0, 5)))
+        yield hall, fillings_of(hall)
+
+
+# How many cells of how many values hang together at most: of any of these the fillings are at most 2,000.
+SHAPES = ((10, 2), (6, 3), (5, 4), (4, 6), (3, 10), (3, 4), (2, 10), (1, 10))
+
+
+def group_hall(chance, names, alone, fits):
+    """A hall of these cells and those alone, which have one value, with or without a filling; and its fillings."""
+    room = tuple(sorted(chance.sample(range(-20, 20), {size: values for size, values in SHAPES}[len(names)])))
+    cells = tuple((name, room) for name in names) + alone
+    fillings = list(every_filling(dict(cells)))
+    wishes = ()
+    wanted = chance.randint(0, 3)
+    while len(wishes) < wanted if fits else fillings:
+        wish = loose_wish(chance, names + tuple(name for name, room in alone), room)
+        left = [filling for filling in fillings if kept_by_the_words(wish, filling)]
+        if left if fits else len(left) * 4 <= len(fillings) * 3:
+            wishes += (wish,)
+            fillings = left
+    return (cells, wishes), fillings
+
+
+def idle_wishes(chance, cells):
+    """Wishes of cells of all groups that are always kept, so that they tie nothing."""
+    names = [name for name, room in cells]
+    return (("many", TEN, tuple(chance.sample(names, 12)), 0, 12), ("behind", tuple(chance.sample(names, 12)), -100),
+            ("same", names[0], dict(cells)[names[0]], ("many", (), tuple(names[1:13]), 0, 0)))
+
+
+def wide_hall(chance, sick):
+    """A hall of forty cells and forty wishes, some told twice, that falls asunder; and the fillings of each group, of which so many have none."""
+    alone = ((FORTY[38], (3,)), (FORTY[39], (-5,)))
+    groups = []
+    names = tuple(FORTY[:38])
+    while names:
+        size = chance.choice([size for size, values in SHAPES if size <= len(names)])
+        groups.append(group_hall(chance, names[:size], alone, len(groups) >= sick))
+        names = names[size:]
+    cells = [cell for hall, fillings in groups for cell in hall[0] if cell not in alone] + list(alone)
+    wishes = [wish for hall, fillings in groups for wish in hall[1]]
+    wishes += idle_wishes(chance, cells)
+    wishes += chance.choices(wishes, k=40 - len(wishes))
+    chance.shuffle(cells)
+    chance.shuffle(wishes)
+    return (tuple(cells), tuple(wishes)), [fillings for hall, fillings in groups]
+
+
+class HallTestCase(unittest.TestCase):
+    def assert_filling(self, hall, filling, wishes=None):
+        """A filling of all cells by their rooms that keeps these wishes, or all."""
+        self.assertIsInstance(filling, dict)
+        self.assertEqual(sorted(filling), sorted(name for name, room in hall[0]))
+        for name, room in hall[0]:
+            self.assertIn(filling[name], room)
+        for wish in hall[1] if wishes is None else wishes:
+            self.assertTrue(kept_by_the_words(wish, filling), (wish, filling))
+
+    def assert_paper(self, hall, paper):
+        self.assertIsInstance(paper, tuple)
+        self.assertIs(check_none(hall, paper), True)
+        for why, clause in paper:
+            self.assertEqual(clause, tuple(sorted(set(clause))))

@@ -1,75 +1,11 @@
 import copy
-import itertools
 import random
 import unittest
 
-from helper import FAR, FORTY, TEN, by_units_by_the_words, every_filling, follows_by_all, holds_by_the_words, kept_by_the_words, raised
-from helper import random_rooms, random_wish, told_by_all
+from helper import FAR, FORTY, TEN, Filled, every_filling, holds_by_the_words, kept_by_the_words, pairs_hall, paper_by_cases, raised
+from helper import random_rooms, random_wish, refused_at
 from seekhall.errors import HallError, NoPaper
 from seekhall.nones import check_none, named_in
-
-
-class Filled(Exception):
-    """The hall has a filling that keeps all wishes, so there is no paper."""
-
-
-def negated(chosen, rooms, told_by_is):
-    """The clause that not all of these values are chosen, where it can be by `is` of the other one of two values."""
-    literals = []
-    for name, value in chosen.items():
-        others = [other for other in rooms[name] if other != value]
-        if told_by_is and len(others) == 1:
-            literals.append((name, "is", others[0]))
-        else:
-            literals.append((name, "not", value))
-    return tuple(sorted(literals))
-
-
-def paper_by_cases(hall, told_by_is=False):
-    """A line by a wish where it is broken; else, behind those of all values of a cell, a line by None."""
-    rooms = dict(hall[0])
-    lines = []
-
-    def go(chosen):
-        now = dict(rooms, **{name: (value,) for name, value in chosen.items()})
-        broken = [number for number, wish in enumerate(hall[1]) if not told_by_all(wish, now)[0]]
-        if not broken and len(chosen) == len(rooms):
-            raise Filled
-        if not broken:
-            name = [name for name in rooms if name not in chosen][0]
-            for value in rooms[name]:
-                go(dict(chosen, **{name: value}))
-        lines.append((broken[0] if broken else None, negated(chosen, rooms, told_by_is)))
-
-    go({})
-    return tuple(lines)
-
-
-def is_right_by_the_words(hall, paper, number):
-    """Point 11 of one line once more."""
-    rooms = dict(hall[0])
-    why, clause = paper[number]
-    if not all(cell in rooms and value in rooms[cell] for cell, word, value in clause):
-        return False
-    if why is not None:
-        return why in range(len(hall[1])) and follows_by_all(hall[1][why], clause, rooms)
-    narrowed = {name: list(room) for name, room in rooms.items()}
-    for cell, word, value in clause:
-        narrowed[cell] = [one for one in narrowed[cell] if (one == value) is (word == "not")]
-    return not all(narrowed.values()) or by_units_by_the_words(narrowed, [line[1] for line in paper[:number]]) is None
-
-
-def refused_at(hall, paper):
-    """The number with which the paper is to be refused, or None."""
-    for number in range(len(paper)):
-        if not is_right_by_the_words(hall, paper, number):
-            return number
-    return None if paper and paper[-1][1] == () else len(paper)
-
-
-def pairs_hall(names, room):
-    """Cells no two of which may have one value, a wish for each pair."""
-    return tuple((name, room) for name in names), tuple(("unlike", pair) for pair in itertools.combinations(names, 2))
 
 
 def chain_hall():

@@ -1,28 +1,10 @@
-import itertools
-import random
 import unittest
 
-from helper import every_filling, kept_by_the_words, random_rooms, random_wish
-from seekhall.halls import all_kept
-from seekhall.lookers import dead_clause, looked_at
-from seekhall.nones import check_none
 from seekhall.trails import Trail
 
 
 def line_of(cell, value, *others):
     return 0, tuple(sorted(((cell, "not", value),) + others))
-
-
-def loose_wish(chance, names):
-    """A wish of two or three cells that takes little away by itself, so that much is left to choices."""
-    one, other, third = names
-    return chance.choice([
-        ("table", (one, other), tuple(chance.sample(list(itertools.product((0, 1, 2), repeat=2)), 6))),
-        ("unlike", (one, other)),
-        ("same", third, (chance.randint(0, 2),), ("unlike", (one, other))),
-        ("sum", ((1, one), (1, other), (1, third)), 2, 4),
-        ("many", (0, 1), tuple(names), 1, 2),
-    ])
 
 
 class TrailTest(unittest.TestCase):
@@ -92,80 +74,3 @@ class TrailTest(unittest.TestCase):
         self.assertEqual(self.trail.why_dead((2, (("c", "is", 5),))), ([(None, clause), (2, (("c", "is", 5),))], (("a", "not", 1),)))
         self.trail.turn_back((("a", "not", 1),))
         self.assertEqual((self.trail.level(), self.trail.rooms_now()), (0, {"b": (1, 2, 3), "a": (2,), "c": (4, 5, 6)}))
-
-
-class Search:
-    """The plainest search that stands on a trail: it shows that what the trail tells makes a paper."""
-
-    def __init__(self, hall):
-        self.hall = hall
-        self.first = dict(hall[0])
-        self.trail = Trail(self.first)
-        self.paper = []
-
-    def look(self):
-        """Takes away what the wishes take away; gives a dead line, or None where nothing is taken any more."""
-        changed = True
-        while changed:
-            changed = False
-            for number, wish in enumerate(self.hall[1]):
-                clause = dead_clause(wish, self.first, self.trail.rooms_now())
-                if clause is not None:
-                    return number, clause
-                for cell, value, clause in looked_at(wish, self.first, self.trail.rooms_now()):
-                    self.trail.take_away(cell, value, (number, clause))
-                    changed = True
-        return None
-
-    def told(self):
-        while True:
-            dead = self.look()
-            if dead is not None:
-                lines, clause = self.trail.why_dead(dead)
-                self.paper += [line for line in lines if line not in self.paper] + [(None, clause)]
-                if clause == ():
-                    return "none", tuple(self.paper)
-                self.trail.turn_back(clause)
-            else:
-                several = [(cell, room) for cell, room in self.trail.rooms_now().items() if len(room) > 1]
-                if not several:
-                    return "fits", {cell: room[0] for cell, room in self.trail.rooms_now().items()}
-                self.trail.choose(several[0][0], several[0][1][-1])
-
-
-class SearchTest(unittest.TestCase):
-    def test_halls_by_chance(self):
-        chance = random.Random(111)
-        told = {"fits": 0, "none": 0}
-        longest = 0
-        for turn in range(500):
-            cells = tuple(random_rooms(chance, "abcde", 4).items())
-            wishes = tuple(random_wish(chance, "abcde") for time in range(chance.randint(1, 5)))
-            if turn % 2:
-                cells = tuple((name, (0, 1, 2)) for name in "abcdef")
-                wishes = tuple(loose_wish(chance, chance.sample("abcdef", 3)) for time in range(chance.randint(10, 20)))
-            hall = cells, wishes
-            word, thing = Search(hall).told()
-            told[word] += 1
-            some = any(all(kept_by_the_words(wish, filling) for wish in hall[1]) for filling in every_filling(dict(cells)))
-            self.assertEqual(word, "fits" if some else "none")
-            if some:
-                self.assertTrue(all_kept(hall, thing))
-            else:
-                self.assertIs(check_none(hall, thing), True)
-                longest = max(longest, len(thing))
-        self.assertGreater(min(told.values()), 100)
-        self.assertGreater(longest, 10)
-
-    def test_a_hall_that_needs_many_choices(self):
-        names = "abcde"
-        pairs = [(x, y) for x in names for y in names if x < y]
-        for room, word in (((1, 2, 3, 4), "none"), ((1, 2, 3, 4, 5), "fits")):
-            hall = tuple((name, room) for name in names), tuple(("unlike", pair) for pair in pairs)
-            found, thing = Search(hall).told()
-            self.assertEqual(found, word)
-            if word == "none":
-                self.assertIs(check_none(hall, thing), True)
-                self.assertGreater(len([line for line in thing if line[0] is None]), 10)
-            else:
-                self.assertTrue(all_kept(hall, thing))
