@@ -6,7 +6,6 @@ from seekhall.halls import first_rooms
 from seekhall.lookers import dead_by, taken_by
 from seekhall.sorts import may_be_kept, wish_of
 from seekhall.trails import Trail
-from seekhall.units import is_untrue
 from seekhall.wishes import Wish
 
 
@@ -39,9 +38,8 @@ class Search:
                 self.standing[cell].append(number)
         # The numbers of those to look at again, as keys.
         self.waiting = dict([(number, True) for number in wishes])
-        # Each line with those that it leans on; and the clauses of those that came by units.
+        # Each line with those that it leans on.
         self.paper = {}
-        self.learnt = []
 
     def wake(self, cell, but):
         for number in self.standing[cell]:
@@ -58,32 +56,15 @@ class Search:
             self.wake(taken[0], number)
         return None
 
-    def look_by_learnt(self, clause):
-        left = [literal for literal in clause if not is_untrue(literal, self.trail.now)]
-        if len(left) == 0:
-            return (None, clause)
-        if len(left) == 1 and left[0][2] in self.trail.now[left[0][0]]:
-            self.trail.take_away(left[0][0], left[0][2], (None, clause))
-            self.wake(left[0][0], None)
-        return None
-
-    def look_by_all_learnt(self):
-        for clause in self.learnt:
-            dead = self.look_by_learnt(clause)
-            if dead is not None:
-                return dead
-        return None
-
     # Until it is dead or nothing more is taken away: a dead line, or None.
     def look(self):
-        dead = self.look_by_all_learnt()
-        while dead is None and len(self.waiting) > 0:
+        while len(self.waiting) > 0:
             number = min(list(self.waiting))
             self.waiting.pop(number)
             dead = self.look_by(number)
-            if dead is None and len(self.waiting) == 0:
-                dead = self.look_by_all_learnt()
-        return dead
+            if dead is not None:
+                return dead
+        return None
 
     # The clause that shuts out the choices of which it died.
     def learn(self, dead):
@@ -94,8 +75,8 @@ class Search:
             self.paper.setdefault((None, why[1]), why[0])
         return why[1]
 
+    # All wishes were looked at in the rooms to which it goes back: what waited in the dead ones needs no look there.
     def turn_back(self, clause):
-        self.learnt.append(clause)
         self.trail.turn_back(clause)
         self.waiting.clear()
         self.wake(self.trail.steps[-1][0], None)
