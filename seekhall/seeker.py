@@ -6,13 +6,12 @@ from seekhall.halls import first_rooms
 from seekhall.lookers import dead_by, taken_by
 from seekhall.sorts import may_be_kept, wish_of
 from seekhall.trails import Trail
-from seekhall.wishes import Wish
 
 
-# A search comes to the same rooms again and again: what was told of them once is kept as long as it lasts.
-class Remembering(Wish):
+# A search comes to the same rooms again and again: what a wish told of them once is kept as long as the search lasts.
+class Remembering:
     def __init__(self, wish):
-        Wish.__init__(self, wish)
+        self.wish = wish
         self.asked = wish_of(wish)
         self.cells = cells_of(wish)
         self.told = {}
